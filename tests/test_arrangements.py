@@ -9,57 +9,13 @@ from cratetowers.arrangements import (
 )
 from cratetowers.errors import InvalidArrangement, InvalidCount, InvalidMove, InvalidPlace, InvalidYard
 from cratetowers.yards import WAYS, Yard
-from tests.helpers import ROWS, RefusalCase, odd_values, prices_at
+from tests.helpers import (
+    ROWS, RefusalCase, all_arrangements, moves_by_stacks, no_arrangements, no_yards, odd_values, sample_yards,
+    stacks_of,
+)
 
 BARRED = Yard([[5, 6, 7, None, 8, 9], [1, 2, 3, 4, None, 6]])
 NEAR_PLACES = ["A", "d", "ab", "abc", "", " ", "a ", " a", "a\n", 0, 1, ["a"], ("a",)]
-
-
-def sample_yards():
-    """Yards of 1 to 4 crates: with free ways, with all ways barred, and mixed ones."""
-    for count in range(1, 5):
-        yield Yard.even(count, 3)
-        yield Yard([[None] * 6] * count)
-        for seed in range(6):
-            yield Yard([prices_at(5 * seed + crate) for crate in range(count)])
-
-
-def all_arrangements(yard):
-    """All arrangements in ascending order."""
-    return ["".join(places) for places in itertools.product("abc", repeat=len(yard))]
-
-
-def stacks_of(arrangement):
-    """The crates on each place, the largest one first."""
-    stacks = {"a": [], "b": [], "c": []}
-    for crate, place in enumerate(arrangement):
-        stacks[place].append(crate)
-    return stacks
-
-
-def moves_by_stacks(yard, arrangement):
-    """The allowed moves as the yard worker sees them: a top crate onto the ground or a larger one."""
-    stacks = stacks_of(arrangement)
-    moves = []
-    for column, way in enumerate(WAYS):
-        taken, laid = stacks[way[0]], stacks[way[1]]
-        if taken and (not laid or laid[-1] < taken[-1]) and yard.rows()[taken[-1]][column] is not None:
-            moves.append((taken[-1], way[1]))
-    return sorted(moves)
-
-
-def no_arrangements(count):
-    """Values that are no arrangements of a yard with so many crates."""
-    right = ("abc" * count)[:count]
-    near = [right + "a", right[:-1], right[:-1] + "d", right[:-1] + "A", right[:-1] + " ", right[:-1] + "\n"]
-    near += [right + " ", " " + right, right + "\n", right.upper(), right.replace("a", "1"), right * 2, "a" * 200]
-    return [*odd_values(), *near, 0, 1, count, [right], list(right), tuple(right), {right: 1}, (right,)]
-
-
-def no_yards():
-    yard = Yard(ROWS)
-    others = [value for value in odd_values() if not isinstance(value, Yard)]
-    return [*others, 0, 1, ROWS, str(yard), [yard], (yard,)]
 
 
 # A call of each function with a yard alone; the rest are arguments that would be refused if they were looked at.

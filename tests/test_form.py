@@ -5,7 +5,7 @@ import inspect
 import pathlib
 import unittest
 
-from cratetowers import arrangements, yards
+from cratetowers import arrangements, costs, levels, rows, ways, yards
 
 FOLDER = pathlib.Path(yards.__file__).parent
 FUNCTIONS = {
@@ -19,12 +19,36 @@ FUNCTIONS = {
         "moved": ["yard", "arrangement", "move"], "move_cost": ["yard", "arrangement", "move"],
         "way_back": ["yard", "arrangement", "move"],
     },
+    rows: {
+        "is_row": ["yard", "start", "value"], "first_bad": ["yard", "start", "row"], "behind": ["yard", "start", "row"],
+        "all_behind": ["yard", "start", "row"], "row_cost": ["yard", "start", "row"],
+        "row_crates": ["yard", "start", "row"], "row_of_largest": ["yard", "start", "row", "count"],
+        "cut_short": ["yard", "start", "row"], "row_back": ["yard", "start", "row"],
+    },
+    levels: {
+        "tables": ["yard"], "tower_cost": ["yard", "way"], "is_paper": ["yard", "value"],
+        "told_cost": ["yard", "paper", "way"], "straight_ways": ["yard"],
+    },
+    costs: {
+        "to_towers": ["yard", "start"], "from_towers": ["yard", "goal"], "least": ["yard", "start", "goal"],
+        "largest_moving": ["yard", "start", "goal"], "paper": ["yard", "start", "goal"],
+        "is_cost_paper": ["yard", "start", "goal", "value"], "shown_cost": ["yard", "start", "goal", "paper"],
+    },
 }
 METHODS = {
-    "__init__": ["rows"], "rows": [], "price": ["crate", "way"], "with_price": ["crate", "way", "price"],
-    "smallest": ["count"], "backwards": [], "renamed": ["places"],
+    yards.Yard: {
+        "__init__": ["rows"], "rows": [], "price": ["crate", "way"], "with_price": ["crate", "way", "price"],
+        "smallest": ["count"], "backwards": [], "renamed": ["places"], "__len__": [], "__eq__": ["other"],
+        "__str__": [],
+    },
+    ways.Way: {
+        "__init__": ["yard", "start", "goal"], "move": ["index"], "behind": ["count"], "first": ["count"],
+        "crate_moves": [], "uses": ["crate", "way"],
+    },
 }
-CLASS_METHODS = {"read": ["text"], "even": ["count", "price"]}
+CLASS_METHODS = {yards.Yard: {"read": ["text"], "even": ["count", "price"]}}
+PROPERTIES = {ways.Way: ["cost", "moves"]}
+MODULES = {yards.Yard: "cratetowers.yards", ways.Way: "cratetowers.ways"}
 
 
 def arguments_of(call):
@@ -40,14 +64,21 @@ class InterfaceTest(unittest.TestCase):
                     self.assertEqual(call.__module__, module.__name__)
                     self.assertEqual(arguments_of(call), arguments)
 
-    def test_the_yard_has_its_methods_with_their_arguments(self):
-        self.assertEqual(yards.Yard.__module__, "cratetowers.yards")
-        for name, arguments in METHODS.items():
-            with self.subTest(name=name):
-                self.assertEqual(arguments_of(vars(yards.Yard)[name])[1:], arguments)
-        for name, arguments in CLASS_METHODS.items():
-            with self.subTest(name=name):
-                self.assertEqual(arguments_of(getattr(yards.Yard, name)), arguments)
+    def test_classes_have_their_methods_in_their_own_bodies(self):
+        for kind, methods in METHODS.items():
+            self.assertEqual(kind.__module__, MODULES[kind])
+            for name, arguments in methods.items():
+                with self.subTest(kind=kind, name=name):
+                    self.assertEqual(arguments_of(vars(kind)[name])[1:], arguments)
+        for kind, methods in CLASS_METHODS.items():
+            for name, arguments in methods.items():
+                with self.subTest(kind=kind, name=name):
+                    self.assertIsInstance(vars(kind)[name], classmethod)
+                    self.assertEqual(arguments_of(getattr(kind, name)), arguments)
+        for kind, names in PROPERTIES.items():
+            for name in names:
+                with self.subTest(kind=kind, name=name):
+                    self.assertIsInstance(vars(kind)[name], property)
 
 
 class FilesTest(unittest.TestCase):

@@ -1,0 +1,152 @@
+"""A cheapest row between two arrangements, told move by move."""
+
+from cratetowers.arrangements import check_arrangement
+from cratetowers.errors import InvalidCount, InvalidCrate, NoWay
+from cratetowers.lines import ALL_ENDS, THROUGH, cost_levels, line_cost, neighbours, parts_of, routes_of
+from cratetowers.yards import WAYS, check_way, is_integer_within
+
+MOST_LISTED = 1000
+
+
+class Way:
+    """The cheapest row from one arrangement to another one that goes straight where this is not dearer.
+
+    It is kept as routes: for each crate, from two ends to its places in the row between them.
+    """
+
+    def __init__(self, yard, start, goal):
+        check_arrangement(yard, start)
+        check_arrangement(yard, goal)
+        levels = cost_levels(yard, ALL_ENDS, start, goal)
+        if levels[-1][THROUGH] is None:
+            raise NoWay(start, goal)
+        self.start = start
+        self.goal = goal
+        self._cost = levels[-1][THROUGH]
+        self._routes = _cheapest_routes(yard, start, goal, levels)
+        self._lengths = _lengths_of(self._routes)
+        self._uses = _uses_of(self._routes)
+
+    @property
+    def cost(self):
+        """What the row costs."""
+        return self._cost
+
+    @property
+    def moves(self):
+        """The number of the moves."""
+        return self._lengths[0][THROUGH]
+
+    def move(self, index):
+        """Return the move with an index."""
+        if not is_integer_within(index, 0, self.moves - 1):
+            raise InvalidCount(index)
+        crate = 0
+        places, part, left = self._moment(crate, THROUGH, index)
+        while left < self._lengths[crate + 1][part]:
+            crate += 1
+            places, part, left = self._moment(crate, part, left)
+        return (crate, places[1])
+
+    def behind(self, count):
+        """Return the arrangement behind the first so many moves."""
+        if not is_integer_within(count, 0, self.moves):
+            raise InvalidCount(count)
+        arrangement = ""
+        part, left = THROUGH, count
+        for crate in range(len(self._routes)):
+            places, part, left = self._moment(crate, part, left)
+            arrangement = arrangement + places[0]
+        return arrangement
+
+    def first(self, count):
+        """Return the list of the first so many moves."""
+        if not is_integer_within(count, 0, min(self.moves, MOST_LISTED)):
+            raise InvalidCount(count)
+        return self._first_between(0, THROUGH, count)
+
+    def crate_moves(self):
+        """Return, for each crate, how often it is moved."""
+        return [sum(list(used.values())) for used in self._uses]
+
+    def uses(self, crate, way):
+        """Return how often a crate goes a way."""
+        if not is_integer_within(crate, 0, len(self._uses) - 1):
+            raise InvalidCrate(crate)
+        check_way(way)
+        return self._uses[crate][way]
+
+    def _moment(self, crate, ends, count):
+        """Return how things are behind the first so many moves of the row of a crate and its rest between two ends.
+
+        These are the places of its route from the present one on, the part of the row that its rest makes there,
+        and how many moves of this part are made.
+        """
+        route = self._routes[crate][ends]
+        parts = parts_of(ends, route)
+        at = 0
+        left = count
+        while left > self._lengths[crate + 1][parts[at]]:
+            # Behind each part but the last one, the crate itself makes a move.
+            left = left - self._lengths[crate + 1][parts[at]] - 1
+            at += 1
+        return route[at:], parts[at], left
+
+    def _first_between(self, crate, ends, count):
+        """Return the first so many moves of the row of a crate and its rest between two ends."""
+        route = self._routes[crate][ends]
+        listed = []
+        for at, part in enumerate(parts_of(ends, route)):
+            wanted = min(count - len(listed), self._lengths[crate + 1][part])
+            if wanted > 0:
+                listed.extend(self._first_between(crate + 1, part, wanted))
+            if len(listed) < count:
+                listed.append((crate, route[at + 1]))
+        return listed
+
+
+def _cheapest_routes(yard, start, goal, levels):
+    """Return for each crate, by the levels of the least costs, the routes between all ends."""
+    return [
+        {
+            ends: _cheapest_route(yard, crate, ends, routes_of(crate, ends, start, goal), levels)
+            for ends in ALL_ENDS
+        }
+        for crate in range(len(yard))
+    ]
+
+
+def _cheapest_route(yard, crate, ends, routes, levels):
+    """Return the first one of the routes of a crate of which the line is as cheap as can be."""
+    count = len(yard) - 1 - crate
+    costs = [line_cost(yard, crate, ends, route, levels[count]) for route in routes]
+    return routes[costs.index(levels[count + 1][ends])]
+
+
+def _lengths_of(routes):
+    """Return the numbers of moves between all ends, of each crate and its rest, and at last of no crates."""
+    lengths = [{ends: 0 for ends in ALL_ENDS}]
+    for crate_routes in reversed(routes):
+        below = lengths[-1]
+        lengths.append({
+            ends: len(route) - 1 + sum([below[part] for part in parts_of(ends, route)])
+            for ends, route in crate_routes.items()
+        })
+    return lengths[::-1]
+
+
+def _uses_of(routes):
+    """Return for each crate how often it goes each way."""
+    uses = []
+    times = {THROUGH: 1}
+    for crate_routes in routes:
+        used = {way: 0 for way in WAYS}
+        below = {}
+        for ends, often in times.items():
+            for way in neighbours(crate_routes[ends]):
+                used[way] += often
+            for part in parts_of(ends, crate_routes[ends]):
+                below[part] = below.get(part, 0) + often
+        uses.append(used)
+        times = below
+    return uses
