@@ -308,6 +308,13 @@ class CopiesTest(RefusalCase):
                     self.assertEqual(call(yard, "abc", row, *others), kept)
         self.assertEqual(row, walk(yard, "abc", 20, 4)[0])
 
+    def test_a_row_that_stays_as_it_is_is_a_new_list(self):
+        for row in (ROW, []):
+            for call, others in ((cut_short, ()), (row_of_largest, (2,))):
+                told = call(BARRED, "aa", row, *others)
+                self.assertEqual(told, row)
+                self.assertIsNot(told, row)
+
     def test_equal_rows_have_equal_answers(self):
         for yard, start, row, _ in walks():
             for call, others in OF_ROWS.items():
