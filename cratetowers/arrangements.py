@@ -1,7 +1,9 @@
 """Arrangements of the crates of a yard, and single moves."""
 
 from cratetowers.errors import InvalidArrangement, InvalidCount, InvalidMove
-from cratetowers.yards import PLACES, check_place, check_yard, is_integer_within, is_place, third
+from cratetowers.yards import COLUMNS, PLACES, check_place, check_yard, is_integer_within, is_place
+
+_PLACE_SIGNS = "abc"
 
 
 def is_arrangement(yard, value):
@@ -10,7 +12,7 @@ def is_arrangement(yard, value):
     return (
         isinstance(value, str)
         and len(value) == len(yard)
-        and all([place in PLACES for place in value])
+        and value.strip(_PLACE_SIGNS) == ""
     )
 
 
@@ -18,6 +20,12 @@ def check_arrangement(yard, arrangement):
     """Raise InvalidYard, and InvalidArrangement for any value that is not an arrangement."""
     if not is_arrangement(yard, arrangement):
         raise InvalidArrangement(arrangement)
+
+
+def check_both(yard, start, goal):
+    """Raise InvalidYard, and InvalidArrangement for the start and then for the goal."""
+    check_arrangement(yard, start)
+    check_arrangement(yard, goal)
 
 
 def tower(yard, place):
@@ -83,11 +91,11 @@ def is_crate_and_place(yard, value):
 def is_allowed(yard, arrangement, move):
     """Tell whether a tuple of a crate and a place is an allowed move in an arrangement."""
     crate, place = move
-    if arrangement[crate] == place:
+    held = arrangement[crate]
+    # The last sign of a place is its smallest crate: the moved one there, and a larger one or none where it comes.
+    if arrangement.rfind(held) != crate or arrangement.rfind(place) >= crate:
         return False
-    way = arrangement[crate] + place
-    smaller = arrangement[crate + 1:]
-    return yard.price(crate, way) is not None and smaller == third(way) * len(smaller)
+    return yard.prices()[crate][COLUMNS[held + place]] is not None
 
 
 def check_move(yard, arrangement, move):
@@ -115,7 +123,7 @@ def move_cost(yard, arrangement, move):
     """Return what a move costs."""
     check_move(yard, arrangement, move)
     crate, place = move
-    return yard.price(crate, arrangement[crate] + place)
+    return yard.prices()[crate][COLUMNS[arrangement[crate] + place]]
 
 
 def way_back(yard, arrangement, move):

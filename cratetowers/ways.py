@@ -1,8 +1,8 @@
 """A cheapest row between two arrangements, told move by move."""
 
-from cratetowers.arrangements import check_arrangement
+from cratetowers.arrangements import check_both
 from cratetowers.errors import InvalidCount, InvalidCrate, NoWay
-from cratetowers.lines import ALL_ENDS, THROUGH, cost_levels, line_cost, neighbours, parts_of, routes_of
+from cratetowers.routes import THROUGH, levels_between, parts_of
 from cratetowers.yards import WAYS, check_way, is_integer_within
 
 MOST_LISTED = 1000
@@ -11,19 +11,19 @@ MOST_LISTED = 1000
 class Way:
     """The cheapest row from one arrangement to another one that goes straight where this is not dearer.
 
-    It is kept as routes: for each crate, from two ends to its places in the row between them.
+    It is kept as routes: for each crate, from two ends to its places in the row between them and to the ends of the
+    rows that its rest makes meanwhile.
     """
 
     def __init__(self, yard, start, goal):
-        check_arrangement(yard, start)
-        check_arrangement(yard, goal)
-        levels = cost_levels(yard, ALL_ENDS, start, goal)
-        if levels[-1][THROUGH] is None:
+        check_both(yard, start, goal)
+        levels = levels_between(yard, start, goal)
+        if levels and not levels[0].is_way():
             raise NoWay(start, goal)
         self.start = start
         self.goal = goal
-        self._cost = levels[-1][THROUGH]
-        self._routes = _cheapest_routes(yard, start, goal, levels)
+        self._cost = min(levels[0].lines(THROUGH)) if levels else 0
+        self._routes = _routes_of(levels, start)
         self._lengths = _lengths_of(self._routes)
         self._uses = _uses_of(self._routes)
 
@@ -82,21 +82,21 @@ class Way:
         These are the places of its route from the present one on, the part of the row that its rest makes there,
         and how many moves of this part are made.
         """
-        route = self._routes[crate][ends]
-        parts = parts_of(ends, route)
+        route, parts = self._routes[crate][ends]
+        lengths = self._lengths[crate + 1]
         at = 0
         left = count
-        while left > self._lengths[crate + 1][parts[at]]:
+        while left > lengths[parts[at]]:
             # Behind each part but the last one, the crate itself makes a move.
-            left = left - self._lengths[crate + 1][parts[at]] - 1
+            left = left - lengths[parts[at]] - 1
             at += 1
         return route[at:], parts[at], left
 
     def _first_between(self, crate, ends, count):
         """Return the first so many moves of the row of a crate and its rest between two ends."""
-        route = self._routes[crate][ends]
+        route, parts = self._routes[crate][ends]
         listed = []
-        for at, part in enumerate(parts_of(ends, route)):
+        for at, part in enumerate(parts):
             wanted = min(count - len(listed), self._lengths[crate + 1][part])
             if wanted > 0:
                 listed.extend(self._first_between(crate + 1, part, wanted))
@@ -105,32 +105,32 @@ class Way:
         return listed
 
 
-def _cheapest_routes(yard, start, goal, levels):
-    """Return for each crate, by the levels of the least costs, the routes between all ends."""
-    return [
-        {
-            ends: _cheapest_route(yard, crate, ends, routes_of(crate, ends, start, goal), levels)
-            for ends in ALL_ENDS
-        }
-        for crate in range(len(yard))
-    ]
-
-
-def _cheapest_route(yard, crate, ends, routes, levels):
-    """Return the first one of the routes of a crate of which the line is as cheap as can be."""
-    count = len(yard) - 1 - crate
-    costs = [line_cost(yard, crate, ends, route, levels[count]) for route in routes]
-    return routes[costs.index(levels[count + 1][ends])]
+def _routes_of(levels, start):
+    """Return for each crate the routes between all ends that occur, each with the ends of the parts of its rest."""
+    routes = [{THROUGH: (place, [THROUGH])} for place in start[:len(start) - len(levels)]]
+    wanted = [THROUGH]
+    for level in levels:
+        chosen = {}
+        below = {}
+        for ends in wanted:
+            route = level.routes(ends)[0]
+            parts = parts_of(ends, route)
+            chosen[ends] = (route, parts)
+            for part in parts:
+                below[part] = True
+        routes.append(chosen)
+        wanted = list(below)
+    return routes
 
 
 def _lengths_of(routes):
-    """Return the numbers of moves between all ends, of each crate and its rest, and at last of no crates."""
-    lengths = [{ends: 0 for ends in ALL_ENDS}]
-    for crate_routes in reversed(routes):
+    """Return the numbers of moves between the ends, of each crate and its rest, and at last of no crates."""
+    lengths = [{part: 0 for _, parts in routes[-1].values() for part in parts}]
+    for chosen in reversed(routes):
         below = lengths[-1]
         lengths.append({
-            ends: len(route) - 1 + sum([below[part] for part in parts_of(ends, route)])
-            for ends, route in crate_routes.items()
+            ends: len(route) - 1 + sum([below[part] for part in parts])
+            for ends, (route, parts) in chosen.items()
         })
     return lengths[::-1]
 
@@ -139,13 +139,14 @@ def _uses_of(routes):
     """Return for each crate how often it goes each way."""
     uses = []
     times = {THROUGH: 1}
-    for crate_routes in routes:
+    for chosen in routes:
         used = {way: 0 for way in WAYS}
         below = {}
         for ends, often in times.items():
-            for way in neighbours(crate_routes[ends]):
-                used[way] += often
-            for part in parts_of(ends, crate_routes[ends]):
+            route, parts = chosen[ends]
+            for at in range(len(route) - 1):
+                used[route[at:at + 2]] += often
+            for part in parts:
                 below[part] = below.get(part, 0) + often
         uses.append(used)
         times = below

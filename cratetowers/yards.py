@@ -9,9 +9,11 @@ from cratetowers.errors import (
     InvalidWay,
     InvalidYard,
 )
+from cratetowers.lines import reckoning_of
 
 PLACES = ("a", "b", "c")
 WAYS = ("ab", "ac", "ba", "bc", "ca", "cb")
+COLUMNS = {"ab": 0, "ac": 1, "ba": 2, "bc": 3, "ca": 4, "cb": 5}
 MOST_CRATES = 60
 _THIRDS = {"ab": "c", "ac": "b", "ba": "c", "bc": "a", "ca": "b", "cb": "a"}
 _DIGITS = "0123456789"
@@ -67,6 +69,12 @@ def check_yard(yard):
         raise InvalidYard(yard)
 
 
+def check_price_or_bar(price):
+    """Raise InvalidPrice for any value that is neither an integer above 0 nor None."""
+    if price is not None and not is_price(price):
+        raise InvalidPrice(price)
+
+
 def check_crate(yard, crate):
     """Raise InvalidCrate for any value that is not the number of a crate of a yard."""
     if not is_integer_within(crate, 0, len(yard) - 1):
@@ -81,6 +89,7 @@ class Yard:
             raise InvalidYard(rows)
         # Tuples, so that no list that a caller holds is part of the yard.
         self._rows = tuple([tuple(row) for row in rows])
+        self._reckoning = None
 
     @classmethod
     def read(cls, text):
@@ -111,20 +120,30 @@ class Yard:
         """Return the list of the lists of prices, None where a way is barred."""
         return [list(row) for row in self._rows]
 
+    def prices(self):
+        """Return the rows as tuples, which nobody can change."""
+        return self._rows
+
+    def reckoning(self):
+        """Return the least costs from tower to tower and the prices that they are made of, as numbers."""
+        # Callers ask for many costs of one yard, so this is worked out once, but not before it is asked for.
+        if self._reckoning is None:
+            self._reckoning = reckoning_of(self._rows)
+        return self._reckoning
+
     def price(self, crate, way):
         """Return the price of a crate for a way, or None if it is barred."""
         check_crate(self, crate)
         check_way(way)
-        return self._rows[crate][WAYS.index(way)]
+        return self._rows[crate][COLUMNS[way]]
 
     def with_price(self, crate, way, price):
         """Return the yard with another price, or with a bar if the price is None."""
         check_crate(self, crate)
         check_way(way)
-        if not _is_price_or_bar(price):
-            raise InvalidPrice(price)
+        check_price_or_bar(price)
         rows = self.rows()
-        rows[crate][WAYS.index(way)] = price
+        rows[crate][COLUMNS[way]] = price
         return Yard(rows)
 
     def smallest(self, count):
@@ -146,7 +165,7 @@ class Yard:
 
     def _with_prices_of(self, ways):
         """Return the yard in which the six ways, in their order, have the prices of these."""
-        columns = [WAYS.index(way) for way in ways]
+        columns = [COLUMNS[way] for way in ways]
         return Yard([[row[column] for column in columns] for row in self._rows])
 
 
@@ -164,13 +183,8 @@ def _is_price_row(value):
     return (
         isinstance(value, (list, tuple))
         and len(value) == len(WAYS)
-        and all([_is_price_or_bar(price) for price in value])
+        and all([price is None or is_price(price) for price in value])
     )
-
-
-def _is_price_or_bar(value):
-    """Tell whether any value is a price, or None for a barred way."""
-    return value is None or is_price(value)
 
 
 def _is_place_order(value):
