@@ -95,7 +95,7 @@ def is_allowed(yard, arrangement, move):
     # The last sign of a place is its smallest crate: the moved one there, and a larger one or none where it comes.
     if arrangement.rfind(held) != crate or arrangement.rfind(place) >= crate:
         return False
-    return yard.prices()[crate][COLUMNS[held + place]] is not None
+    return yard.price_rows()[crate][COLUMNS[held + place]] is not None
 
 
 def check_move(yard, arrangement, move):
@@ -123,7 +123,7 @@ def move_cost(yard, arrangement, move):
     """Return what a move costs."""
     check_move(yard, arrangement, move)
     crate, place = move
-    return yard.prices()[crate][COLUMNS[arrangement[crate] + place]]
+    return yard.price_rows()[crate][COLUMNS[arrangement[crate] + place]]
 
 
 def way_back(yard, arrangement, move):

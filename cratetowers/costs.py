@@ -1,7 +1,7 @@
 """Least costs between any two arrangements, and the papers that show them."""
 
 from cratetowers.arrangements import check_arrangement, check_both
-from cratetowers.errors import InvalidPaper
+from cratetowers.errors import InvalidPaper, NoWay
 from cratetowers.levels import is_paper
 from cratetowers.lines import both_lines, first_apart, to_towers_above, turned
 from cratetowers.papers import are_levels, are_within, bound_beyond, bounded_prices, numbers_of
@@ -26,7 +26,7 @@ def least(yard, start, goal):
     """Return the least cost from one arrangement to another one, None if no row leads there."""
     check_both(yard, start, goal)
     reckoning = yard.reckoning()
-    return reckoning.told(reckoning.cost(start, goal))
+    return reckoning.told(reckoning.cheapest(start, goal))
 
 
 def largest_moving(yard, start, goal):
@@ -95,3 +95,11 @@ def shown_cost(yard, start, goal, paper):
     to_goal = numbers_of([paper[2][rest]], PLACES, bound)[0]
     cost = min(both_lines(start[crate] + goal[crate], prices, towers, from_start, to_goal))
     return cost if cost < bound else None
+
+
+def sure_cost(yard, start, goal):
+    """Return the least cost from one arrangement to another one; raise NoWay if no row leads there."""
+    cost = least(yard, start, goal)
+    if cost is None:
+        raise NoWay(start, goal)
+    return cost

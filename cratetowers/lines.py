@@ -143,7 +143,7 @@ class Reckoning:
         """Return the levels of the least costs from the towers to a goal."""
         return self.backwards().to_towers(goals)
 
-    def cost(self, starts, goals):
+    def cheapest(self, starts, goals):
         """Return the least cost from a start to a goal."""
         crate = first_apart(starts, goals)
         if crate is None:

@@ -38,7 +38,7 @@ def bound_beyond(yard, lists):
 
 def bounded_prices(yard, bound):
     """Return the prices of the crates from the smallest one on, with a bound where a way is barred."""
-    return without_bars(yard.prices(), bound)
+    return without_bars(yard.price_rows(), bound)
 
 
 def numbers_of(levels, names, bound):

@@ -39,7 +39,7 @@ def all_behind(yard, start, row):
 def row_cost(yard, start, row):
     """Return what a row costs."""
     arrangements = all_behind(yard, start, row)
-    prices = yard.prices()
+    prices = yard.price_rows()
     return sum([prices[crate][COLUMNS[here[crate] + place]] for here, (crate, place) in zip(arrangements, row)])
 
 
@@ -104,7 +104,7 @@ def _is_move_list(yard, value):
 
 def _arrangements(yard, start, moves):
     """Return the arrangements from the start on, up to the first move that is not allowed."""
-    prices = yard.prices()
+    prices = yard.price_rows()
     here = start
     arrangements = [here]
     for crate, place in moves:

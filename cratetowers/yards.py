@@ -120,7 +120,7 @@ class Yard:
         """Return the list of the lists of prices, None where a way is barred."""
         return [list(row) for row in self._rows]
 
-    def prices(self):
+    def price_rows(self):
         """Return the rows as tuples, which nobody can change."""
         return self._rows
 

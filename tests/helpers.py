@@ -5,7 +5,7 @@ import itertools
 import random
 import unittest
 
-from cratetowers.errors import CratesError, InvalidYard, NotAllowed, NoWay
+from cratetowers.errors import CratesError, InvalidYard, NotAllowed, NoWay, TooMany, UnlikeYards
 from cratetowers.yards import WAYS, Yard
 
 # What stands for None, which is greater than all numbers.
@@ -38,6 +38,29 @@ def sample_yards():
         yield Yard([[None] * 6] * count)
         for seed in range(6):
             yield Yard([prices_at(5 * seed + crate) for crate in range(count)])
+
+
+CHOICES = ["a", "b", "c", "ab", "ac", "bc", "abc"]
+
+
+def random_patterns(seed, count, many):
+    """So many patterns of so many crates, the same ones at each run."""
+    chance = random.Random(f"{seed} {count}")
+    return [[chance.choice(CHOICES) for _ in range(count)] for _ in range(many)]
+
+
+def no_patterns(count):
+    """Values that are no patterns of a yard with so many crates."""
+    right = (["ab", "c", "abc"] * count)[:count]
+    others = ["", "d", "ba", "aa", "aab", "abcc", "cba", "ca", "A", "a ", " a", "a b", "a,b", "abd", "a\n", "-"]
+    near = [[*right[:-1], other] for other in [*others, None, 0, True, ["a"], ("a", "b"), [], {"a": 1}]]
+    near += [["", *right[1:]], right[:-1], [*right, "a"], [right], right * 2, "a" * count, ("abc" * count)[:count]]
+    near += [tuple(near[0]), {place: 1 for place in CHOICES[:count]}, {0: "a", 1: "b"}, ["abc"] * 100, count]
+    return [value for value in odd_values() if not is_plain_pattern(value, count)] + near
+
+
+def is_plain_pattern(value, count):
+    return isinstance(value, (list, tuple)) and len(value) == count and all(item in CHOICES for item in value)
 
 
 def all_arrangements(yard):
@@ -118,6 +141,21 @@ class PlainSearch:
             self.found[start] = self.search(start)
         return self.found[start].get(goal)
 
+    def next_stops(self, here, goal):
+        """The arrangements behind the first moves of all cheapest rows."""
+        left = self.cost(here, goal)
+        return [there for price, _, there in self.steps[here] if plain_sum([price, self.cost(there, goal)]) == left]
+
+    def cheapest_rows(self, start, goal):
+        """All cheapest rows, each one as the list of its arrangements; none if no row leads there."""
+        if start == goal:
+            return [[start]]
+        if self.cost(start, goal) is None:
+            return []
+        return [
+            [start, *row] for there in self.next_stops(start, goal) for row in self.cheapest_rows(there, goal)
+        ]
+
     def search(self, start):
         costs = {}
         queue = [(0, start)]
@@ -187,6 +225,17 @@ class RefusalCase(unittest.TestCase):
         self.assertIs(type(caught.exception), NotAllowed)
         self.assertEqual((type(caught.exception.index), caught.exception.index), (int, index))
         self.assertEqual(repr((args, names)), before)
+
+    def assert_too_many(self, count, call, *args, **names):
+        with self.assertRaises(CratesError) as caught:
+            call(*args, **names)
+        self.assertIs(type(caught.exception), TooMany)
+        self.assertEqual((type(caught.exception.count), caught.exception.count), (int, count))
+
+    def assert_unlike(self, call, *args, **names):
+        with self.assertRaises(CratesError) as caught:
+            call(*args, **names)
+        self.assertIs(type(caught.exception), UnlikeYards)
 
     def assert_no_way(self, start, goal, call, *args, **names):
         with self.assertRaises(CratesError) as caught:

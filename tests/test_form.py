@@ -5,7 +5,7 @@ import inspect
 import pathlib
 import unittest
 
-from cratetowers import arrangements, costs, levels, rows, ways, yards
+from cratetowers import arrangements, costs, counting, levels, lots, patterns, rows, ways, yards
 
 FOLDER = pathlib.Path(yards.__file__).parent
 FUNCTIONS = {
@@ -34,6 +34,23 @@ FUNCTIONS = {
         "largest_moving": ["yard", "start", "goal"], "paper": ["yard", "start", "goal"],
         "is_cost_paper": ["yard", "start", "goal", "value"], "shown_cost": ["yard", "start", "goal", "paper"],
     },
+    counting: {
+        "count_cheapest": ["yard", "start", "goal"], "fewest_moves": ["yard", "start", "goal"],
+        "most_moves": ["yard", "start", "goal"], "lies_on_some": ["yard", "start", "goal", "arrangement"],
+        "lies_on_all": ["yard", "start", "goal", "arrangement"],
+    },
+    patterns: {
+        "is_pattern": ["yard", "value"], "fits": ["yard", "pattern", "arrangement"], "how_many_fit": ["yard", "pattern"],
+        "cost_to": ["yard", "start", "pattern"], "nearest": ["yard", "start", "pattern"],
+        "how_many_nearest": ["yard", "start", "pattern"], "cost_from": ["yard", "pattern", "goal"],
+        "nearest_start": ["yard", "pattern", "goal"], "cost_between": ["yard", "starts", "goals"],
+        "pair_between": ["yard", "starts", "goals"], "home_costs": ["yard", "start", "goal"],
+        "home_within": ["yard", "start", "goal", "cost"],
+    },
+    lots: {
+        "come_to": ["yard", "start"], "come_from": ["yard", "goal"], "both_ways": ["yard", "start"],
+        "come_to_any": ["yard", "pattern"], "nearest_lot": ["yard", "start", "pattern"],
+    },
 }
 METHODS = {
     yards.Yard: {
@@ -45,10 +62,18 @@ METHODS = {
         "__init__": ["yard", "start", "goal"], "move": ["index"], "behind": ["count"], "first": ["count"],
         "crate_moves": [], "uses": ["crate", "way"],
     },
+    lots.Lot: {
+        "count": [], "at": ["number"], "number": ["arrangement"], "first": ["count"], "both": ["other"],
+        "either": ["other"], "without": ["other"], "within": ["other"], "__contains__": ["arrangement"],
+        "__eq__": ["other"],
+    },
 }
-CLASS_METHODS = {yards.Yard: {"read": ["text"], "even": ["count", "price"]}}
+CLASS_METHODS = {
+    yards.Yard: {"read": ["text"], "even": ["count", "price"]},
+    lots.Lot: {"every": ["yard"], "of_pattern": ["yard", "pattern"]},
+}
 PROPERTIES = {ways.Way: ["cost", "moves"]}
-MODULES = {yards.Yard: "cratetowers.yards", ways.Way: "cratetowers.ways"}
+MODULES = {yards.Yard: "cratetowers.yards", ways.Way: "cratetowers.ways", lots.Lot: "cratetowers.lots"}
 
 
 def arguments_of(call):
