@@ -121,7 +121,7 @@ class Nearest:
         return self._start[crate] if end == START_BIT else _PLACES_OF[end]
 
     def _lines(self, crate, end):
-        """Return for each line to a place of the goal its cost, this place, and the tower from which its rest goes on."""
+        """Return for each line to a place of the goal its cost, this place, and the last tower of its rest."""
         rest = len(self._start) - 1 - crate
         here = self._place(crate, end)
         prices, towers = self._reckoning.prices[rest], self._reckoning.towers[rest]

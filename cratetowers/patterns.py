@@ -170,7 +170,7 @@ def home_costs(yard, start, goal):
 
 
 def _bring_home(reckoning, costs, here, goal, crate, to_towers, ahead):
-    """Lower the costs to what they are if a crate comes home from a place, and its rest by these costs to the towers."""
+    """Lower the costs to what they are if a crate comes home from a place, with these costs of its rest."""
     there = goal[crate]
     if here == there:
         costs[here] = min(costs[here], ahead)
