@@ -42,10 +42,10 @@ class Way:
         if not is_integer_within(index, 0, self.moves - 1):
             raise InvalidCount(index)
         crate = 0
-        places, part, left = self._moment(crate, THROUGH, index)
+        places, part, left = self._held_behind(crate, THROUGH, index)
         while left < self._lengths[crate + 1][part]:
             crate += 1
-            places, part, left = self._moment(crate, part, left)
+            places, part, left = self._held_behind(crate, part, left)
         return (crate, places[1])
 
     def behind(self, count):
@@ -55,7 +55,7 @@ class Way:
         arrangement = ""
         part, left = THROUGH, count
         for crate in range(len(self._routes)):
-            places, part, left = self._moment(crate, part, left)
+            places, part, left = self._held_behind(crate, part, left)
             arrangement = arrangement + places[0]
         return arrangement
 
@@ -76,7 +76,20 @@ class Way:
         check_way(way)
         return self._uses[crate][way]
 
-    def _moment(self, crate, ends, count):
+    def moment(self, arrangement):
+        """Return the number of moves behind which an arrangement comes, or None if it does not come."""
+        moves = 0
+        ends = THROUGH
+        for crate, place in enumerate(arrangement):
+            route, parts = self._routes[crate][ends]
+            at = route.find(place)
+            if at < 0:
+                return None
+            moves = moves + at + sum([self._lengths[crate + 1][part] for part in parts[:at]])
+            ends = parts[at]
+        return moves
+
+    def _held_behind(self, crate, ends, count):
         """Return how things are behind the first so many moves of the row of a crate and its rest between two ends.
 
         These are the places of its route from the present one on, the part of the row that its rest makes there,

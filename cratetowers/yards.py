@@ -45,6 +45,12 @@ def is_integer_within(value, low, high):
     return is_integer(value) and low <= value <= high
 
 
+def is_numeral(word):
+    """Tell whether a string is an integer from 0 on in decimal notation without needless signs."""
+    # isdigit also takes digits of other scripts, of which no numeral is made.
+    return word != "" and word.strip(_DIGITS) == "" and (word[0] != "0" or word == "0")
+
+
 def third(way):
     """Return the place that is not in a way."""
     check_way(way)
@@ -208,10 +214,7 @@ def _is_line(line):
 
 def _is_price_text(word):
     """Tell whether a string is a price in decimal notation, or stands for a bar."""
-    if word == _BAR:
-        return True
-    # isdigit also takes digits of other scripts, of which no text of a yard is made.
-    return word != "" and word[0] != "0" and all([sign in _DIGITS for sign in word])
+    return word == _BAR or (is_numeral(word) and word != "0")
 
 
 def _price_text(price):

@@ -1,11 +1,14 @@
 """Tests of the form: the names and arguments of the interface, and the sizes of the package's files."""
 
 import ast
+import builtins
 import inspect
 import pathlib
 import unittest
 
-from cratetowers import arrangements, costs, counting, levels, lots, patterns, rows, ways, yards
+from cratetowers import (
+    arrangements, costs, counting, desk, glimpses, levels, lots, oneprice, patterns, rows, totals, ways, yards,
+)
 
 FOLDER = pathlib.Path(yards.__file__).parent
 FUNCTIONS = {
@@ -40,7 +43,8 @@ FUNCTIONS = {
         "lies_on_all": ["yard", "start", "goal", "arrangement"],
     },
     patterns: {
-        "is_pattern": ["yard", "value"], "fits": ["yard", "pattern", "arrangement"], "how_many_fit": ["yard", "pattern"],
+        "is_pattern": ["yard", "value"], "fits": ["yard", "pattern", "arrangement"],
+        "how_many_fit": ["yard", "pattern"],
         "cost_to": ["yard", "start", "pattern"], "nearest": ["yard", "start", "pattern"],
         "how_many_nearest": ["yard", "start", "pattern"], "cost_from": ["yard", "pattern", "goal"],
         "nearest_start": ["yard", "pattern", "goal"], "cost_between": ["yard", "starts", "goals"],
@@ -50,6 +54,20 @@ FUNCTIONS = {
     lots: {
         "come_to": ["yard", "start"], "come_from": ["yard", "goal"], "both_ways": ["yard", "start"],
         "come_to_any": ["yard", "pattern"], "nearest_lot": ["yard", "start", "pattern"],
+    },
+    oneprice: {
+        "cost_with": ["yard", "start", "goal", "crate", "way", "price"],
+        "kept_range": ["yard", "start", "goal", "crate", "way"],
+        "fewest_uses": ["yard", "start", "goal", "crate", "way"],
+        "pieces": ["yard", "start", "goal", "crate", "way", "low", "high"],
+    },
+    totals: {
+        "can_come": ["yard", "start"], "farthest": ["yard", "start"], "farthest_from_tower": ["yard", "place"],
+        "sum_to_tower": ["yard", "place"], "twice_moved": ["yard"],
+    },
+    glimpses: {
+        "moment": ["yard", "start", "goal", "arrangement"], "price_range": ["yard", "crate", "way", "seen"],
+        "closed": ["yard"], "same_costs": ["one", "other"], "parting_pair": ["one", "other"],
     },
 }
 METHODS = {
@@ -67,13 +85,28 @@ METHODS = {
         "either": ["other"], "without": ["other"], "within": ["other"], "__contains__": ["arrangement"],
         "__eq__": ["other"],
     },
+    desk.Desk: {
+        "__init__": [], "begin": ["yard", "arrangement"], "set_price": ["crate", "way", "price"],
+        "move": ["crate", "place"], "lead": ["goal"], "follow": ["goal", "count"], "yard": [], "arrangement": [],
+        "paid": [], "undo": [], "redo": [], "trial": ["act"], "run": ["line"], "run_all": ["lines"],
+    },
 }
 CLASS_METHODS = {
     yards.Yard: {"read": ["text"], "even": ["count", "price"]},
     lots.Lot: {"every": ["yard"], "of_pattern": ["yard", "pattern"]},
 }
-PROPERTIES = {ways.Way: ["cost", "moves"]}
-MODULES = {yards.Yard: "cratetowers.yards", ways.Way: "cratetowers.ways", lots.Lot: "cratetowers.lots"}
+PROPERTIES = {ways.Way: ["cost", "moves"], desk.Desk: ["undos", "redos"]}
+MODULES = {
+    yards.Yard: "cratetowers.yards", ways.Way: "cratetowers.ways", lots.Lot: "cratetowers.lots",
+    desk.Desk: "cratetowers.desk",
+}
+
+# Words that may not stand in the code of the package, and names of Python's own that it may call.
+BARRED_WORDS = {"type", "law", "open", "input", "register", "mro", "elements", "enum", "exec", "eval", "compile", "id"}
+BUILTINS = {
+    "len", "range", "enumerate", "zip", "min", "max", "sum", "sorted", "reversed", "int", "str", "list", "tuple",
+    "dict", "isinstance", "any", "all", "divmod", "bool", "abs", "ValueError", "property", "classmethod",
+}
 
 
 def arguments_of(call):
@@ -121,6 +154,21 @@ class FilesTest(unittest.TestCase):
                 self.assertTrue(all(sign == "\n" or " " <= sign <= "~" for sign in text))
                 self.assertLess(len(lines), 400)
                 self.assertLessEqual(max(map(len, lines)), 120)
+
+    def test_names_of_pythons_own(self):
+        for path in FOLDER.glob("*.py"):
+            for node in ast.walk(ast.parse(path.read_text())):
+                with self.subTest(path=path.name, line=getattr(node, "lineno", None)):
+                    if isinstance(node, ast.Name):
+                        self.assertNotIn(node.id, BARRED_WORDS)
+                        self.assertTrue(node.id in BUILTINS or not hasattr(builtins, node.id), node.id)
+                    if isinstance(node, (ast.Import, ast.ImportFrom)):
+                        self.assertIsInstance(node, ast.ImportFrom)
+                        self.assertRegex(node.module, r"^cratetowers\.[a-z]+$")
+                    if isinstance(node, ast.Constant):
+                        self.assertIn(node.value.__class__.__name__, ("str", "int", "bool", "NoneType"))
+                        self.assertNotIn("%", str(node.value))
+                    self.assertNotIsInstance(node, (ast.GeneratorExp, ast.Div, ast.Lambda, ast.Global, ast.Set))
 
     def test_functions_have_at_most_forty_lines(self):
         for path in FOLDER.glob("*.py"):

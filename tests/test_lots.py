@@ -83,14 +83,15 @@ class RefusalsTest(RefusalCase):
             for call in (lot.both, lot.either, lot.without, lot.within):
                 for value in [*odd_values(), 0, "aa", members(lot), ROUND, YARD]:
                     self.assert_refused(InvalidLot, value, call, value)
-                for other in (Lot.every(Yard.even(1, 1)), Lot.every(Yard.even(3, 1)), come_to(Yard.even(60, 1), START60)):
-                    self.assert_unlike(call, other)
+                for count in (1, 3, 60):
+                    self.assert_unlike(call, Lot.every(Yard.even(count, 1)))
 
     def test_arguments_by_their_names(self):
         every = Lot.every(yard=YARD)
         some = Lot.of_pattern(pattern=["ab", "c"], yard=YARD)
         self.assertEqual(members(some), ["ac", "bc"])
-        self.assertEqual([every.at(number=5), every.number(arrangement="bc"), every.first(count=2)], ["bc", 5, ["aa", "ab"]])
+        self.assertEqual([every.at(number=5), every.number(arrangement="bc")], ["bc", 5])
+        self.assertEqual(every.first(count=2), ["aa", "ab"])
         for call in (every.both, some.either, every.without, some.within):
             self.assertEqual(call(other=some), call(some))
         self.assertEqual(come_to(start="bc", yard=YARD), come_to(YARD, "bc"))
@@ -367,7 +368,8 @@ class ExamplesTest(RefusalCase):
             [["ac", "bc"], ["bc"], 2, 2, True],
         )
         self.assertEqual(
-            [nearest_lot(YARD, "aa", ["bc", "abc"]).first(1), come_to_any(YARD, ["bc", "a"]).count(), some.within(told)],
+            [nearest_lot(YARD, "aa", ["bc", "abc"]).first(1), come_to_any(YARD, ["bc", "a"]).count(),
+             some.within(told)],
             [["bc"], 6, False],
         )
         self.assert_refused(InvalidCount, 3, told.at, 3)

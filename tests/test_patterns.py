@@ -284,9 +284,10 @@ class HomeTest(unittest.TestCase):
             for start in starts_of(yard):
                 for goal in every[::{1: 1, 2: 1, 3: 4}[len(yard)]]:
                     with self.subTest(yard=str(yard), start=start, goal=goal):
+                        reached = {there: search.cost(start, there) for there in every}
+                        known = [(there, cost) for there, cost in reached.items() if cost is not None]
                         costs = [
-                            min([search.cost(start, there) for there in every
-                                 if there[:home] == goal[:home] and search.cost(start, there) is not None], default=None)
+                            min([cost for there, cost in known if there[:home] == goal[:home]], default=None)
                             for home in range(len(yard) + 1)
                         ]
                         self.assertEqual(home_costs(yard, start, goal), costs)
