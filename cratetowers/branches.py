@@ -5,13 +5,12 @@ end is a bit: one for each tower, and START_BIT for how these crates stand at fi
 is none. What stands below an end is a triple of ends of the smaller crates, one for each place of the crate.
 """
 
-from cratetowers.lines import both_lines, first_apart, from_each_tower
+from cratetowers.lines import THIRDS, both_lines, first_apart, from_each_tower
 
 START_BIT = 8
 _BITS = {"a": 1, "b": 2, "c": 4}
 _PLACES_OF = {1: "a", 2: "b", 4: "c"}
 _ENDS = (1, 2, 4, 8)
-_OVER = {"ab": "c", "ac": "b", "ba": "c", "bc": "a", "ca": "b", "cb": "a"}
 # The costs of the rows of a rest that are left out.
 _FREE = (0, 0, 0)
 
@@ -77,7 +76,7 @@ class Reached:
         found = {"a": 0, "b": 0, "c": 0}
         for here in places:
             found[here] = found[here] | end
-            for way, over in _OVER.items():
+            for way, over in THIRDS.items():
                 if way[0] == here:
                     straight, turning = both_lines(way, prices, towers, to_towers, _FREE)
                     there = way[1]
@@ -100,7 +99,7 @@ class Nearest:
         self._goals = goals
         self._to_towers = reckoning.to_towers(start[apart + 1:])[-1]
         self._from_towers = reckoning.from_towers(goals[apart + 1:])
-        self.least_cost = 0 if apart == len(start) else min([cost for cost, _, _ in self._lines(apart, START_BIT)])
+        self.least_cost = 0 if apart == len(start) else min([line[0] for line in self._lines(apart, START_BIT)])
 
     def below(self, crate, end):
         """Return what stands below an end: the ends from which the rest goes on, for each place of the crate."""
@@ -109,7 +108,7 @@ class Nearest:
             # Each row in which this crate moves would be cheaper without its moves.
             return tuple([end if place == here else 0 for place in "abc"])
         lines = self._lines(crate, end)
-        least = min([cost for cost, _, _ in lines])
+        least = min([line[0] for line in lines])
         found = {"a": 0, "b": 0, "c": 0}
         for cost, there, last in lines:
             if cost == least:
@@ -130,6 +129,6 @@ class Nearest:
         for there in self._goals[crate]:
             way = here + there
             straight, turning = both_lines(way, prices, towers, to_towers, self._from_towers[rest])
-            lines.append((straight, there, _OVER[way]))
+            lines.append((straight, there, THIRDS[way]))
             lines.append((turning, there, here))
         return lines

@@ -6,6 +6,7 @@ Levels are listed from no crates on. Among them a number that is not below a bou
 greater than all costs, so what is made with a bar can never look like a cost.
 """
 
+THIRDS = {"ab": "c", "ac": "b", "ba": "c", "bc": "a", "ca": "b", "cb": "a"}
 # For each way from i to j, with the third place t: the columns of ij, it, tj and ji, and the places i, j and t.
 _TURNS = {
     "ab": (0, 1, 5, 2, 0, 1, 2),

@@ -4,13 +4,11 @@ A row of a crate and its rest is told by two ends. An end is a place, for the to
 these crates stand in the start or in the goal. A route is the string of the places of the crate in such a row.
 """
 
-from cratetowers.lines import both_lines, first_apart, from_each_tower, turned
+from cratetowers.lines import THIRDS, both_lines, first_apart, from_each_tower, turned
 
 START = "s"
 GOAL = "g"
 THROUGH = "sg"
-# For each way, the third place.
-_OVER = {"ab": "c", "ac": "b", "ba": "c", "bc": "a", "ca": "b", "cb": "a"}
 
 
 def levels_between(yard, start, goal):
@@ -64,7 +62,7 @@ class Level:
         way = here + there
         if straight < turning:
             return [way]
-        over = here + _OVER[way] + there
+        over = here + THIRDS[way] + there
         return [over] if turning < straight else [way, over]
 
 
@@ -73,7 +71,7 @@ def parts_of(ends, route):
     if len(route) == 1:
         return [ends]
     if len(route) == 2:
-        over = _OVER[route]
+        over = THIRDS[route]
         return [ends[0] + over, over + ends[1]]
     # When the crate goes a way, its rest stands as the tower on the third place, here on its last one, then its first.
     return [ends[0] + route[2], route[2] + route[0], route[0] + ends[1]]

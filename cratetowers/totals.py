@@ -8,7 +8,6 @@ from cratetowers.yards import PLACES, WAYS, check_yard, third
 
 MOST_CRATES_IN_ALL = 7
 MOST_CRATES_IN_PAIRS = 5
-_START = "s"
 
 
 def can_come(yard, start):
@@ -54,7 +53,7 @@ def _twice_moved_on(reckoning, way, to_towers, from_towers):
     """Return how many pairs of rests there are with which crate 0 has to go a way over the third place."""
     prices, towers, bound = reckoning.prices[-1], reckoning.towers[-2], reckoning.bound
     ahead = [both_lines(way, prices, towers, costs, (0, 0, 0)) for costs in to_towers]
-    here, there, over = PLACES.index(way[0]), PLACES.index(way[1]), PLACES.index(third(way))
+    here, over = PLACES.index(way[0]), PLACES.index(third(way))
     behind = [(costs[over], costs[here]) for costs in from_towers]
     return len([
         way
@@ -85,29 +84,34 @@ def _greatest(yard, costs):
 
 def _all_costs(reckoning, start):
     """Return the least costs from an arrangement to all arrangements, in their order."""
-    # For each end, the costs from there to all arrangements of the smaller crates.
-    found = {end: [0] for end in (*PLACES, _START)}
-    for place, prices, towers, from_start in zip(
+    # The costs from the start, and from the tower on each place, to all arrangements of the smaller crates.
+    from_start = [0]
+    from_towers = {place: [0] for place in PLACES}
+    for place, prices, towers, to_towers in zip(
         start[::-1], reckoning.prices, reckoning.towers, reckoning.to_towers(start)
     ):
-        to_towers = from_each_tower(towers)
-        to_towers[_START] = from_start
-        below = found
-        found = {}
-        for end in below:
-            here = place if end == _START else end
-            found[end] = _costs_with_one_more(here, below[end], below, prices, towers, to_towers[end])
-    return found[_START]
+        from_start = _costs_with_one_more(place, from_start, from_towers, prices, towers, to_towers)
+        between = from_each_tower(towers)
+        from_towers = {
+            tower_place: _costs_with_one_more(
+                tower_place, from_towers[tower_place], from_towers, prices, towers, between[tower_place]
+            )
+            for tower_place in PLACES
+        }
+    return from_start
 
 
-def _costs_with_one_more(here, staying, below, prices, towers, to_towers):
-    """Return the costs from an end to all arrangements with one crate more, by those of its rest."""
+def _costs_with_one_more(here, staying, from_towers, prices, towers, to_towers):
+    """Return the costs to all arrangements with one crate more that stands on a place at first.
+
+    They are made of the costs of its rest: from how it stands at first, and from the tower on each place.
+    """
     costs = []
     for there in PLACES:
         if there == here:
             costs.extend(staying)
         else:
             straight, turning = both_lines(here + there, prices, towers, to_towers, (0, 0, 0))
-            over = below[third(here + there)]
-            costs.extend([min(straight + one, turning + other) for one, other in zip(over, below[here])])
+            over = from_towers[third(here + there)]
+            costs.extend([min(straight + one, turning + other) for one, other in zip(over, from_towers[here])])
     return costs

@@ -9,13 +9,12 @@ from cratetowers.errors import (
     InvalidWay,
     InvalidYard,
 )
-from cratetowers.lines import reckoning_of
+from cratetowers.lines import THIRDS, reckoning_of
 
 PLACES = ("a", "b", "c")
 WAYS = ("ab", "ac", "ba", "bc", "ca", "cb")
 COLUMNS = {"ab": 0, "ac": 1, "ba": 2, "bc": 3, "ca": 4, "cb": 5}
 MOST_CRATES = 60
-_THIRDS = {"ab": "c", "ac": "b", "ba": "c", "bc": "a", "ca": "b", "cb": "a"}
 _DIGITS = "0123456789"
 _BAR = "-"
 
@@ -54,7 +53,7 @@ def is_numeral(word):
 def third(way):
     """Return the place that is not in a way."""
     check_way(way)
-    return _THIRDS[way]
+    return THIRDS[way]
 
 
 def check_place(place):

@@ -197,6 +197,17 @@ class SixtyCratesTest(unittest.TestCase):
         for call in NUMBERS:
             self.assertEqual(call(yard, "a" * 60, "c" * 60), 3 ** 60 - 1)
 
+    def test_the_cheapest_row_counts_and_not_the_shortest_one(self):
+        # The straight line of crate 0 costs 1 more than the turning one, and has a third of its moves.
+        yard = Yard([[1, 2 * 3 ** 59 + 1, 1, 1, 1, 1]] + [NEXT_DOOR] * 59)
+        for call in NUMBERS:
+            self.assertEqual(call(yard, "a" * 60, "c" * 60), 3 ** 60 - 1)
+        yard = yard.with_price(0, "ac", 2 * 3 ** 59)
+        self.assertEqual(fewest_moves(yard, "a" * 60, "c" * 60), 2 * (3 ** 59 - 1) // 2 + 1)
+        self.assertEqual(most_moves(yard, "a" * 60, "c" * 60), 3 ** 60 - 1)
+        yard = yard.with_price(0, "ac", 2 * 3 ** 59 - 1)
+        self.assertEqual(most_moves(yard, "a" * 60, "c" * 60), 3 ** 59)
+
     def test_fewest_and_most_moves_with_ties(self):
         # Two moves of the smallest crate over c cost as much as one from a to b; it is alone on the way.
         yard = Yard([[1] * 6] * 59 + [[2, 1, 1, 1, 1, 1]])

@@ -168,6 +168,12 @@ class PriceRangeTest(unittest.TestCase):
             [("aa", "aa", None)], [("ac", "ab", 3)], [("ac", "ab", 0)],
         ):
             self.assertEqual(price_range(YARD, 1, "cb", seen), (None, None, False))
+        # The first one tells 6, the other one 1.
+        seen = [("a", "b", 6), ("c", "b", 2)]
+        yard = Yard([[1, 4, 1, 1, 1, 3]])
+        self.assertEqual([price_range(yard, 0, "ab", [one])[:2] for one in seen], [(6, 6), (1, 1)])
+        for order in (seen, seen[::-1]):
+            self.assertEqual(price_range(yard, 0, "ab", order), (None, None, False))
 
     def test_what_always_fits(self):
         for yard in (YARD, Yard([[None] * 6] * 2)):

@@ -207,6 +207,17 @@ class PaperTest(RefusalCase):
                 self.assertEqual(told_cost(yard, value, way), number)
                 self.assertIs(is_paper(yard, changed(tables(yard), 1, way, number)), number <= 1)
 
+    def test_great_numbers_in_the_place_of_none(self):
+        yard = Yard([[1] * 6, [None] * 6])
+        zeros = {way: 0 for way in WAYS}
+        below = {**{way: None for way in WAYS}, "ab": 10 ** 79, "ba": 10 ** 79}
+        # The turning line from a to b is the only one without None.
+        for number, right in [
+            (0, True), (3 * 10 ** 79 + 2, True), (3 * 10 ** 79 + 3, False), (10 ** 80, False), (None, False)
+        ]:
+            last = {**{way: None for way in WAYS}, "ab": number, "ba": 5}
+            self.assertIs(is_paper(yard, [zeros, below, last]), right)
+
     def test_the_first_dict_has_zeros_alone(self):
         for yard in (YARD, Yard([[None] * 6])):
             for way in WAYS:

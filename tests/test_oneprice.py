@@ -266,6 +266,27 @@ class PiecesTest(unittest.TestCase):
                         self.assertEqual(pieces(yard, start, goal, crate, way, low, high), right)
         self.assertGreater(most, 1)
 
+    def test_many_stretches(self):
+        for rows, start, goal, crate, way, right in [
+            ([[6, 8, 6, 4, 2, 5], [5, 1, 12, 3, 6, 12], [1, 6, 8, 6, 8, 3]], "cbb", "bba", 2, "ba",
+             [(1, 3), (4, 2), (6, 1), (14, 0)]),
+            ([[2, 4, 12, 4, 3, 8], [12, 5, 3, 6, 3, 3], [1, 2, 8, 12, 6, 2]], "bbb", "abb", 2, "ba",
+             [(1, 3), (3, 2), (5, 1), (15, 0)]),
+            ([[5, 5, 3, 8, 8, 6], [1, 8, 5, 8, 5, 1]], "bb", "cc", 1, "bc", [(1, 2), (6, 1), (8, 0)]),
+        ]:
+            yard = Yard(rows)
+            self.assertEqual(plain_pieces(yard, start, goal, crate, way, 1, 20), right)
+            self.assertEqual(pieces(yard, start, goal, crate, way, 1, 20), right)
+            self.assertEqual(pieces(yard, start, goal, crate, way, 1, 10 ** 79), right)
+            for price in range(1, 18):
+                changed = yard.with_price(crate, way, price)
+                steps = plain_row(changed, start, goal)
+                kept = [
+                    price for price in range(1, 25) if is_kept(steps, yard.with_price(crate, way, price), start, goal)
+                ]
+                low, high = kept_range(changed, start, goal, crate, way)
+                self.assertEqual(kept, list(range(low, 25 if high is None else high + 1)))
+
     def test_stretches_of_four_crates(self):
         most = 0
         for seed in range(8):
