@@ -1,7 +1,9 @@
 """Tests over the whole program: promises 7 to 10, of what is handed in and of what is returned."""
 
 import copy
+import doctest
 import inspect
+import pathlib
 import unittest
 
 from cratetowers import (
@@ -181,6 +183,14 @@ class YardsTest(RefusalCase):
                 for parameter in inspect.signature(getattr(module, name)).parameters.values():
                     self.assertIs(parameter.kind, inspect.Parameter.POSITIONAL_OR_KEYWORD)
                     self.assertIs(parameter.default, inspect.Parameter.empty)
+
+
+class ReadmeTest(unittest.TestCase):
+    def test_the_examples_of_the_readme(self):
+        path = pathlib.Path(__file__).parent.parent / "README.md"
+        failed, tried = doctest.testfile(str(path), module_relative=False)
+        self.assertEqual(failed, 0)
+        self.assertGreater(tried, 15)
 
 
 class GreatPricesTest(unittest.TestCase):
