@@ -185,6 +185,55 @@ class YardsTest(RefusalCase):
                     self.assertIs(parameter.default, inspect.Parameter.empty)
 
 
+class NamesTest(unittest.TestCase):
+    def arguments(self):
+        """A right value for each name of an argument."""
+        return {
+            "yard": YARD, "one": YARD, "other": Yard.even(3, 2), "start": "aab", "goal": "cba", "arrangement": "aac",
+            "place": "b", "move": (2, "b"), "row": [(2, "a"), (2, "c")], "count": 2, "number": 7, "crate": 1,
+            "way": "ab", "price": 9, "low": 2, "high": 12, "cost": 8, "paper": levels.tables(YARD), "value": ["ab", "c", "bc"],
+            "pattern": ["bc", "a", "abc"], "starts": ["ab", "c", "bc"], "goals": ["c", "ab", "a"],
+            "seen": [("aab", "aac", 1)],
+        }
+
+    def assert_called_alike(self, call, names, values):
+        right = call(*[values[name] for name in names])
+        self.assertEqual(call(**{name: values[name] for name in names}), right)
+        self.assertEqual(call(**{name: values[name] for name in reversed(names)}), right)
+
+    def test_functions_by_the_names_of_their_arguments(self):
+        tried = 0
+        for module, functions in FUNCTIONS.items():
+            for name, names in functions.items():
+                values = self.arguments()
+                if name in ("third", "is_place"):
+                    values["value"] = "ab"
+                if name == "is_cost_paper":
+                    values["value"] = costs.paper(YARD, "aab", "cba")
+                if name == "shown_cost":
+                    values["paper"] = costs.paper(YARD, "aab", "cba")
+                with self.subTest(name=name):
+                    self.assert_called_alike(getattr(module, name), names, values)
+                    tried += 1
+        self.assertGreater(tried, 65)
+
+    def test_methods_by_the_names_of_their_arguments(self):
+        way = Way(goal="cba", start="aab", yard=YARD)
+        self.assertEqual((way.start, way.goal), ("aab", "cba"))
+        lot = Lot.every(yard=YARD)
+        values = {"index": 1, "count": 1, "crate": 1, "way": "ab", "price": 7, "places": "cab", "number": 5}
+        values |= {"arrangement": "abc", "other": lot, "text": str(YARD)}
+        for call, names in [
+            (YARD.price, ["crate", "way"]), (YARD.with_price, ["crate", "way", "price"]), (YARD.smallest, ["count"]),
+            (YARD.renamed, ["places"]), (Yard.even, ["count", "price"]), (Yard.read, ["text"]), (way.move, ["index"]),
+            (way.behind, ["count"]), (way.first, ["count"]), (way.uses, ["crate", "way"]), (lot.at, ["number"]),
+            (lot.number, ["arrangement"]), (lot.first, ["count"]), (lot.both, ["other"]), (lot.either, ["other"]),
+            (lot.without, ["other"]), (lot.within, ["other"]),
+        ]:
+            self.assert_called_alike(call, names, values)
+        self.assertEqual(Yard(rows=PRICES), Yard(PRICES))
+
+
 class ReadmeTest(unittest.TestCase):
     def test_the_examples_of_the_readme(self):
         path = pathlib.Path(__file__).parent.parent / "README.md"
