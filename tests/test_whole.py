@@ -191,7 +191,8 @@ class NamesTest(unittest.TestCase):
         return {
             "yard": YARD, "one": YARD, "other": Yard.even(3, 2), "start": "aab", "goal": "cba", "arrangement": "aac",
             "place": "b", "move": (2, "b"), "row": [(2, "a"), (2, "c")], "count": 2, "number": 7, "crate": 1,
-            "way": "ab", "price": 9, "low": 2, "high": 12, "cost": 8, "paper": levels.tables(YARD), "value": ["ab", "c", "bc"],
+            "way": "ab", "price": 9, "low": 2, "high": 12, "cost": 8, "paper": levels.tables(YARD),
+            "value": ["ab", "c", "bc"],
             "pattern": ["bc", "a", "abc"], "starts": ["ab", "c", "bc"], "goals": ["c", "ab", "a"],
             "seen": [("aab", "aac", 1)],
         }
