@@ -37,7 +37,7 @@ def first_of(branch, crates):
     ends = START_BIT
     for crate in range(crates):
         triple = all_below(branch, crate, [ends])[ends]
-        place, ends = [(place, below) for place, below in zip("abc", triple) if below][0]
+        place, ends = [(held, below) for held, below in zip("abc", triple) if below][0]
         arrangement = arrangement + place
     return arrangement
 

@@ -96,7 +96,8 @@ def from_each_tower(towers):
 def reckoning_of(rows):
     """Return the reckoning of the prices of crates, from the largest one on, with None where a way is barred."""
     greatest = max([price for row in rows for price in row if price is not None], default=1)
-    # A cheapest row comes to no arrangement twice, so it has fewer than 3 ** n moves, and fewer than 4 ** n.
+    # A cheapest row comes to no arrangement twice, so it has fewer than 3 ** n moves. So has a line: it is made of at
+    # most three such rows of one crate less, and of two moves. The bound is 4 ** n times the greatest price.
     bound = greatest << (2 * len(rows))
     prices = without_bars(rows, bound)
     towers = [(0, 0, 0, 0, 0, 0)]
