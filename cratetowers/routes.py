@@ -44,26 +44,30 @@ class Level:
         self._from_towers = from_each_tower(turned(towers))
         self._from_towers[GOAL] = from_towers
 
-    def lines(self, ends):
-        """Return the costs of the straight and of the turning line between two ends that ask for a move."""
-        way = self._places[ends[0]] + self._places[ends[1]]
-        return both_lines(way, self._prices, self._towers, self._to_towers[ends[0]], self._from_towers[ends[1]])
+    def through_cost(self):
+        """Return the number for the least cost from the start to the goal, which ask for a move."""
+        return min(self._lines(START, GOAL, self._places[START] + self._places[GOAL]))
 
     def is_way(self):
-        """Tell whether a row leads from the start to the goal, if these ask for a move."""
-        return min(self.lines(THROUGH)) < self._bound
+        """Tell whether a row leads from the start to the goal, which ask for a move."""
+        return self.through_cost() < self._bound
 
     def routes(self, ends):
         """Return the routes of the cheapest rows between two ends, the straight one first."""
-        here, there = self._places[ends[0]], self._places[ends[1]]
+        first, last = ends
+        here, there = self._places[first], self._places[last]
         if here == there:
             return [here]
-        straight, turning = self.lines(ends)
         way = here + there
+        straight, turning = self._lines(first, last, way)
         if straight < turning:
             return [way]
         over = here + THIRDS[way] + there
         return [over] if turning < straight else [way, over]
+
+    def _lines(self, first, last, way):
+        """Return the costs of the straight and of the turning line between two ends that ask for a way."""
+        return both_lines(way, self._prices, self._towers, self._to_towers[first], self._from_towers[last])
 
 
 def parts_of(ends, route):

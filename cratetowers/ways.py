@@ -22,7 +22,7 @@ class Way:
             raise NoWay(start, goal)
         self.start = start
         self.goal = goal
-        self._cost = min(levels[0].lines(THROUGH)) if levels else 0
+        self._cost = levels[0].through_cost() if levels else 0
         self._routes = _routes_of(levels, start)
         self._lengths = _lengths_of(self._routes)
         self._uses = _uses_of(self._routes)
@@ -157,8 +157,11 @@ def _uses_of(routes):
         below = {}
         for ends, often in times.items():
             route, parts = chosen[ends]
-            for at in range(len(route) - 1):
-                used[route[at:at + 2]] += often
+            # A route of three places has two ways, which begin it and end it.
+            if len(route) > 1:
+                used[route[:2]] += often
+            if len(route) > 2:
+                used[route[1:]] += often
             for part in parts:
                 below[part] = below.get(part, 0) + often
         uses.append(used)
