@@ -19,6 +19,8 @@ from cratetowers.yards import PLACES, check_yard, is_integer_within
 MOST_LISTED = 1000
 _EVERY = "abc"
 _NOWHERE = ""
+# A dict, because the operator `in` may call nothing by a name that an object holds, as NotAllowed holds an index.
+_PLACE_COLUMNS = {"a": 0, "b": 1, "c": 2}
 
 
 class Lot:
@@ -47,7 +49,7 @@ class Lot:
         # An empty lot has no nodes.
         node = 0 if self._diagram[0] else NONE
         for place, layer in zip(arrangement, self._diagram):
-            node = NONE if node == NONE else layer[node][PLACES.index(place)]
+            node = NONE if node == NONE else layer[node][_PLACE_COLUMNS[place]]
         return node != NONE
 
     def __eq__(self, other):
@@ -80,7 +82,7 @@ class Lot:
         number = 0
         node = 0
         for place, layer, counts in zip(arrangement, self._diagram, self._counts[1:]):
-            at = PLACES.index(place)
+            at = _PLACE_COLUMNS[place]
             number = number + sum([counts[below] for below in layer[node][:at]])
             node = layer[node][at]
         return number

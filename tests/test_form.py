@@ -107,10 +107,42 @@ BUILTINS = {
     "len", "range", "enumerate", "zip", "min", "max", "sum", "sorted", "reversed", "int", "str", "list", "tuple",
     "dict", "isinstance", "any", "all", "divmod", "bool", "abs", "ValueError", "property", "classmethod",
 }
+# Methods that Python itself calls for a sign or a builtin; they and properties call nothing that an object holds.
+CALLED_BY_SIGNS = {"__contains__", "__eq__", "__len__", "__repr__", "__str__"}
 
 
 def arguments_of(call):
     return list(inspect.signature(call).parameters)
+
+
+def nodes_of_package(kinds):
+    """All nodes of some kinds in the files of the package."""
+    trees = [ast.parse(path.read_text()) for path in sorted(FOLDER.glob("*.py"))]
+    return [node for tree in trees for node in ast.walk(tree) if isinstance(node, kinds)]
+
+
+def is_called_by_sign(function):
+    decorators = [ast.unparse(node) for node in function.decorator_list]
+    return function.name in CALLED_BY_SIGNS or "property" in decorators
+
+
+def name_called(call):
+    """The name of what is called, or None if it has none, as in `acts[0](x)`."""
+    return call.func.id if isinstance(call.func, ast.Name) else getattr(call.func, "attr", None)
+
+
+def calls_in(nodes):
+    return [call for node in nodes for call in ast.walk(node) if isinstance(call, ast.Call)]
+
+
+def functions_run_by_signs():
+    """The methods that signs and properties run, and all functions that these call, whatever object has them."""
+    known = nodes_of_package((ast.FunctionDef, ast.ClassDef))
+    found = [node for node in known if isinstance(node, ast.FunctionDef) and is_called_by_sign(node)]
+    for function in found:
+        names = {name_called(call) for call in calls_in([function])}
+        found.extend([node for node in known if node.name in names and node not in found])
+    return found
 
 
 class InterfaceTest(unittest.TestCase):
@@ -169,6 +201,22 @@ class FilesTest(unittest.TestCase):
                         self.assertIn(node.value.__class__.__name__, ("str", "int", "bool", "NoneType"))
                         self.assertNotIn("%", str(node.value))
                     self.assertNotIsInstance(node, (ast.GeneratorExp, ast.Div, ast.Lambda, ast.Global, ast.Set))
+
+    def test_operators_and_properties_call_nothing_that_is_passed_or_held(self):
+        held = {node.attr for node in nodes_of_package(ast.Attribute) if isinstance(node.ctx, ast.Store)}
+        self.assertLessEqual({"index", "count", "value", "crates"}, held)
+        own = {node.name for node in nodes_of_package((ast.FunctionDef, ast.ClassDef))}
+        functions = functions_run_by_signs()
+        self.assertLessEqual({"__contains__", "__eq__", "__len__", "__str__", "cost", "undos"}, {
+            function.name for function in functions
+        })
+        for call in calls_in(functions):
+            with self.subTest(call=ast.unparse(call)):
+                if isinstance(call.func, ast.Name):
+                    self.assertIn(call.func.id, BUILTINS | own)
+                else:
+                    self.assertIsInstance(call.func, ast.Attribute)
+                    self.assertNotIn(call.func.attr, held)
 
     def test_functions_have_at_most_forty_lines(self):
         for path in FOLDER.glob("*.py"):

@@ -187,6 +187,57 @@ class LotsTest(unittest.TestCase):
         self.assertIs(other.within(one), False)
 
 
+class InTest(unittest.TestCase):
+    """What `in` tells of each kind of value, by lots of few crates and of sixty."""
+
+    def setUp(self):
+        self.few = come_to(YARD, "bc")
+        self.many = Lot.of_pattern(Yard.even(60, 1), ["ab", "c", "abc"] * 20)
+        empty60 = Lot.every(Yard.even(60, 1)).without(Lot.every(Yard.even(60, 1)))
+        self.empty = [EMPTY2, empty60, self.few.both(Lot.of_pattern(YARD, ["ac", "abc"])), self.many.without(self.many)]
+
+    def assert_none_in(self, lot, values):
+        for value in values:
+            with self.subTest(crates=lot.crates, value=value):
+                self.assertIs(value in lot, False)
+                self.assertIs(value not in lot, True)
+
+    def test_arrangements_of_the_lot(self):
+        for lot, arrangements in [
+            (self.few, ["ba", "bb", "bc"]),
+            (self.many, ["aca" * 20, "bcc" * 20, "acb" * 19 + "bca", "bca" + "acc" * 19]),
+        ]:
+            for arrangement in arrangements:
+                self.assertIs(arrangement in lot, True)
+                self.assertIs(arrangement not in lot, False)
+
+    def test_arrangements_that_are_not_in_it(self):
+        self.assert_none_in(self.few, ["aa", "ab", "ac", "ca", "cb", "cc"])
+        outside = ["c" * 60, "aba" * 20, "cca" + "aca" * 19, "aca" * 19 + "cca", "aca" * 19 + "aaa"]
+        self.assert_none_in(self.many, outside)
+
+    def test_texts_of_another_length(self):
+        self.assert_none_in(self.few, ["", "b", "bbb", "ba" * 100])
+        self.assert_none_in(self.many, ["", "a", "aca" * 19 + "ac", "aca" * 20 + "a", "aca" * 40])
+
+    def test_texts_with_other_letters(self):
+        self.assert_none_in(self.few, ["bd", "xb", "BB", "b ", " b", "b\n", "b1", "01", "--", "  "])
+        self.assert_none_in(self.many, ["aca" * 19 + "acd", "xca" + "aca" * 19, "ACA" * 20, "aca" * 10 + "ac " * 10])
+        self.assert_none_in(self.many, ["aca" * 9 + "a-a" + "aca" * 10, " " * 60])
+
+    def test_values_that_are_no_text(self):
+        for lot in (self.few, self.many):
+            values = [None, True, False, 0, 1, lot.count() - 1, lot, lot.first(1), tuple(lot.first(2)), YARD]
+            self.assert_none_in(lot, [*values, list(lot.at(0)), tuple(lot.at(0)), {"a": 1, "b": 2}, [], (), {}])
+
+    def test_an_empty_lot(self):
+        for lot in self.empty:
+            self.assertEqual(lot.count(), 0)
+            arrangements = ["a" * lot.crates, ("bc" * 30)[:lot.crates], ("cab" * 20)[:lot.crates]]
+            others = ["", "a", "b" * (lot.crates + 1), "d" * lot.crates, None, 0, [], lot, ["a"] * lot.crates]
+            self.assert_none_in(lot, [*arrangements, *others])
+
+
 class EqualityTest(unittest.TestCase):
     def test_lots_are_equal_however_they_were_made(self):
         for yard in (YARD, Yard.even(2, 1), Yard.even(3, 1), random_yard(1, 3, [1, None])):
